@@ -1,0 +1,1 @@
+"""Autoclosing: fewest keys in an editor that closes brackets."""
