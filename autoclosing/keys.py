@@ -1,7 +1,7 @@
 """Keys: what they do to a state."""
 
 from autoclosing.errors import BlockedKeyError, InvalidKeysError
-from autoclosing.texts import CLOSING_OF, check_state, is_letter
+from autoclosing.texts import CLOSING_OF, begins_item, check_state, is_letter
 
 SIGN_KEYS = "()[]{}<>-"
 MOVES = ")]}<>-"
@@ -56,7 +56,7 @@ def after_key(state, key):
 def inverse_of(state, key):
     """The key that undoes a key which is pressed in this state."""
     text, cursor = state
-    if is_letter(key) or key in CLOSING_OF:
+    if begins_item(key):
         return "-"
     if key == "-":
         return text[cursor - 1]

@@ -3,11 +3,17 @@
 from autoclosing.errors import InvalidStateError, InvalidTextError
 
 CLOSING_OF = {"(": ")", "[": "]", "{": "}"}
+EMPTY_STATE = ("", 0)
 
 
 def is_letter(sign):
     """Whether a single character is a letter."""
     return "a" <= sign <= "z"
+
+
+def begins_item(sign):
+    """Whether a single character is a letter or an opening bracket."""
+    return is_letter(sign) or sign in CLOSING_OF
 
 
 def is_integer(value):

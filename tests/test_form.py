@@ -5,7 +5,7 @@ import inspect
 import pathlib
 import unittest
 
-from autoclosing import errors, keys, texts
+from autoclosing import costs, counts, errors, keys, roles, shortest, texts
 
 PACKAGE = pathlib.Path(errors.__file__).parent
 
@@ -17,6 +17,14 @@ INTERFACE = (
     (keys, "is_key_list", ["value"]), (keys, "run_keys", ["state", "keys"]),
     (keys, "states_after_each", ["state", "keys"]), (keys, "accepted_moves", ["state"]),
     (keys, "inverse_keys", ["state", "keys"]),
+    (costs, "cost", ["state"]), (costs, "cost_profile", ["text"]), (costs, "fewest_keys", ["text"]),
+    (costs, "best_cursors", ["text"]),
+    (shortest, "lowering_keys", ["state"]), (shortest, "clearing_keys", ["state"]),
+    (shortest, "building_keys", ["state"]), (shortest, "is_shortest", ["state", "value"]),
+    (shortest, "shorten_keys", ["keys"]),
+    (counts, "level_ways", ["state"]), (counts, "count_shortest", ["state"]),
+    (counts, "count_all_shortest", ["state"]), (counts, "count_shortest_for", ["text"]),
+    (roles, "roles_of", ["keys"]), (roles, "idle_keys", ["keys"]), (roles, "needed_roles", ["state"]),
 )
 
 

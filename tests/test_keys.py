@@ -6,20 +6,12 @@ import unittest
 from autoclosing.errors import BlockedKeyError, InvalidKeysError, InvalidStateError
 from autoclosing.keys import accepted_moves, inverse_keys, is_key_list, run_keys, states_after_each
 from tests.helpers import (
-    ALL_KEYS, NOT_STRINGS, bad_states, expected_after, expected_cost, expected_states, is_exactly, states_up_to,
-    strings_up_to,
+    ALL_KEYS, BAD_BLOCKED_KEYS, BAD_KEYS, NESTED, NOT_STRINGS, bad_states, expected_after, expected_cost,
+    expected_states, is_exactly, states_up_to, strings_up_to,
 )
 
-NESTED = "(" * 75 + ")" * 75
 WITH_KEYS = (run_keys, states_after_each, inverse_keys)
 SOME_KEYS = "ab([)]<>-"
-
-# Strings that are no key lists, with the position of their first character that is no key.
-BAD_KEYS = (
-    ("A", 0), ("Z", 0), ("0", 0), ("9", 0), (" ", 0), ("\n", 0), ("|", 0), ("_", 0), ("=", 0), ("`", 0), ("~", 0),
-    ("\u00e9", 0), ("\u00df", 0), ("\u0430", 0), ("\uff08", 0), ("\u2190", 0), ("\ud800", 0), ("\U0001f600", 0),
-    ("aA", 1), ("a1b2", 1), ("(a>-+", 4), ("abc\n", 3), ("a" * 399 + "!", 399), ("a" * 100 + "?" + "a" * 299, 100),
-)
 
 
 class IsKeyList(unittest.TestCase):
@@ -173,12 +165,8 @@ class RunKeys(unittest.TestCase):
 
     def test_a_strange_character_comes_before_a_blocked_key(self):
         for function in WITH_KEYS:
-            self.assert_invalid_keys(function, "}A", 1)
-            self.assert_invalid_keys(function, "A}", 0)
-            self.assert_invalid_keys(function, "<<<--- ", 6)
-            self.assert_invalid_keys(function, "ab9}}", 2)
-            self.assert_invalid_keys(function, "}" * 399 + "?", 399)
-            self.assert_invalid_keys(function, "a1}B", 1)
+            for keys, index in BAD_BLOCKED_KEYS:
+                self.assert_invalid_keys(function, keys, index)
 
     def test_a_wrong_state_comes_first(self):
         for function in WITH_KEYS:

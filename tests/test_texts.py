@@ -6,13 +6,9 @@ import unittest
 from autoclosing.errors import InvalidStateError, InvalidTextError
 from autoclosing.texts import enclosing_pairs, is_state, is_text, level_items, pairs_of
 from tests.helpers import (
-    BAD_TEXTS, NOT_STRINGS, bad_states, expected_pairs, is_exactly, lists_in, reduces_to_nothing, states_up_to,
-    strings_up_to, texts_up_to,
+    BAD_TEXTS, LONG_TEXTS, MIXED_NESTED, NESTED, NOT_STRINGS, bad_states, expected_pairs, is_exactly, lists_in,
+    reduces_to_nothing, states_up_to, strings_up_to, texts_up_to,
 )
-
-NESTED = "(" * 75 + ")" * 75
-MIXED_NESTED = "([{" * 25 + "}])" * 25
-LONG_TEXTS = (NESTED, MIXED_NESTED, "a" * 150, "()" * 75, "[]" * 75, "{}" * 75, "(a)" * 50, "z{[()]}" * 21 + "abc")
 
 
 def expected_levels(state):
