@@ -66,12 +66,17 @@ def bad_states():
     return bad
 
 
-def reduces_to_nothing(text):
-    """Whether a string is a text: take away letters, then empty pairs until none is left."""
+def without_pairs(text):
+    """What is left of a part of a text without its letters and pairs: brackets whose partners are outside."""
     rest = re.sub("[a-z]", "", text)
-    for _ in text:
-        rest = rest.replace("()", "").replace("[]", "").replace("{}", "")
-    return rest == ""
+    while rest != (shorter := rest.replace("()", "").replace("[]", "").replace("{}", "")):
+        rest = shorter
+    return rest
+
+
+def reduces_to_nothing(text):
+    """Whether a string is a text: nothing is left without its letters and pairs."""
+    return without_pairs(text) == ""
 
 
 def strings_up_to(signs, longest):
@@ -145,14 +150,6 @@ def expected_pairs(text):
             ends = [end for end in range(first + 2, len(text) + 1) if reduces_to_nothing(text[first:end])]
             pairs.append((first, ends[0] - 1))
     return pairs
-
-
-def without_pairs(text):
-    """What is left of a part of a text without its letters and pairs: brackets whose partners are outside."""
-    rest = re.sub("[a-z]", "", text)
-    while rest != (shorter := rest.replace("()", "").replace("[]", "").replace("{}", "")):
-        rest = shorter
-    return rest
 
 
 def expected_cost(state):

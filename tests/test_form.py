@@ -5,7 +5,7 @@ import inspect
 import pathlib
 import unittest
 
-from autoclosing import costs, counts, errors, keys, roles, shortest, texts
+from autoclosing import costs, counts, editor, errors, formats, further, keys, roles, series, shortest, texts
 
 PACKAGE = pathlib.Path(errors.__file__).parent
 
@@ -25,6 +25,19 @@ INTERFACE = (
     (counts, "level_ways", ["state"]), (counts, "count_shortest", ["state"]),
     (counts, "count_all_shortest", ["state"]), (counts, "count_shortest_for", ["text"]),
     (roles, "roles_of", ["keys"]), (roles, "idle_keys", ["keys"]), (roles, "needed_roles", ["state"]),
+    (series, "count_states", ["letters", "kinds", "total"]), (series, "count_left", ["letters", "kinds", "total"]),
+    (series, "count_right", ["letters", "kinds", "total"]), (series, "list_states", ["letters", "kinds", "total"]),
+    (further, "kept_after", ["state", "keys"]), (further, "is_kept", ["state", "target", "value"]),
+    (further, "fewest_further", ["state", "target", "kept"]), (further, "further_keys", ["state", "target", "kept"]),
+    (editor, "Editor", []),
+    (formats, "format_state", ["state"]), (formats, "parse_state", ["text"]),
+    (formats, "format_roles", ["roles"]), (formats, "parse_roles", ["text"]),
+)
+
+METHODS = (
+    ("press", ["self", "keys"]), ("undo", ["self"]), ("redo", ["self"]), ("state", ["self"]), ("pressed", ["self"]),
+    ("wasted", ["self"]), ("tidy", ["self"]), ("duplicate", ["self"]), ("__len__", ["self"]),
+    ("__eq__", ["self", "other"]),
 )
 
 
@@ -35,6 +48,14 @@ class Form(unittest.TestCase):
             with self.subTest(module=module, name=name):
                 found = getattr(module, name)
                 self.assertEqual(found.__module__, module.__name__)
+                self.assertEqual(list(inspect.signature(found).parameters), parameters)
+
+    def test_the_methods_are_defined_in_their_class(self):
+        for name, parameters in METHODS:
+            with self.subTest(name=name):
+                found = vars(editor.Editor)[name]
+                self.assertEqual(found.__module__, editor.__name__)
+                self.assertEqual(found.__qualname__, "Editor." + name)
                 self.assertEqual(list(inspect.signature(found).parameters), parameters)
 
     def test_the_package_holds_nothing_but_its_files(self):

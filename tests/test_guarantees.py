@@ -5,8 +5,12 @@ import unittest
 
 from autoclosing.costs import cost
 from autoclosing.counts import count_shortest, level_ways
+from autoclosing.editor import Editor
+from autoclosing.formats import format_roles, format_state, parse_roles, parse_state
+from autoclosing.further import fewest_further, further_keys, kept_after
 from autoclosing.keys import accepted_moves, inverse_keys, run_keys, states_after_each
-from autoclosing.roles import idle_keys, roles_of
+from autoclosing.roles import idle_keys, needed_roles, roles_of
+from autoclosing.series import count_states, list_states
 from autoclosing.shortest import building_keys, clearing_keys, is_shortest, lowering_keys
 from tests.helpers import (
     LONG_TEXTS, end_of, marked_after, marked_of, reached_by_all, search_layers, searched_counts, state_of,
@@ -100,6 +104,119 @@ class MainGuarantees(unittest.TestCase):
                     current = run_keys(current, choose(lowering_keys(current)))
                     pressed += 1
                 self.assertEqual(pressed, cost(state), state)
+
+
+class ThroughEditors(unittest.TestCase):
+
+    def test_every_key_changes_the_cost_by_one(self):
+        for keys in wandering_lists():
+            editor = Editor()
+            before = cost(editor.state())
+            for key in keys:
+                editor.press(key)
+                after = cost(editor.state())
+                self.assertEqual(abs(after - before), 1, keys)
+                before = after
+
+    def test_undo_and_redo_change_the_cost_by_one(self):
+        for keys in wandering_lists()[:9]:
+            editor = Editor()
+            editor.press(keys[:140])
+            for call in [editor.undo] * 140 + [editor.redo] * 140:
+                before = cost(editor.state())
+                call()
+                self.assertEqual(abs(cost(editor.state()) - before), 1, keys)
+
+    def test_what_is_wasted_are_the_idle_keys(self):
+        for keys in list(reached_by_all("a(<>-", 6)) + wandering_lists():
+            editor = Editor()
+            editor.press(keys)
+            wasted = len(idle_keys(editor.pressed()))
+            self.assertEqual(editor.wasted(), wasted, keys)
+            # Lengths between two states are all even or all odd: what is wasted is even.
+            self.assertEqual(wasted % 2, 0)
+            self.assertEqual(is_shortest(editor.state(), editor.pressed()), wasted == 0)
+
+    def test_a_tidy_editor_has_the_fewest_keys(self):
+        for keys, longest in (("a(<>-", 7), ("ab[]<>-", 5)):
+            for state, length, _ in searched_counts(keys, longest):
+                editor = Editor()
+                editor.press("a<>-" + building_keys(state))
+                editor.tidy()
+                self.assertEqual((editor.state(), len(editor), editor.wasted()), (state, length, 0))
+                self.assertEqual(idle_keys(editor.pressed()), [])
+                editor.press(clearing_keys(state))
+                self.assertEqual((editor.state(), len(editor)), (("", 0), 2 * length))
+
+
+class ThroughGoingOn(unittest.TestCase):
+
+    def test_the_fewest_further_keys_from_the_empty_state_are_the_cost(self):
+        for state, length, many in searched_counts("a()<>-", 8):
+            keys = further_keys(("", 0), state, [])
+            self.assertEqual((fewest_further(("", 0), state, []), len(keys)), (length, length), state)
+            self.assertTrue(is_shortest(state, keys))
+            self.assertEqual(idle_keys(keys), [])
+
+    def test_key_lists_between_two_states_are_all_even_or_all_odd(self):
+        for keys in list(reached_by_all("a()<>", 5)) + list(reached_by_all("a[{<>", 5)):
+            for many in range(len(keys) + 1):
+                state = run_keys(("", 0), keys[:many])
+                target, kept = kept_after(state, keys[many:])
+                fewest = fewest_further(state, target, kept)
+                self.assertLessEqual(fewest, len(keys) - many)
+                self.assertEqual((len(keys) - many - fewest) % 2, 0, (keys, many))
+                self.assertEqual((cost(target) - cost(state) - fewest) % 2, 0)
+                # Each of these keys changes the cost by 1.
+                self.assertLessEqual(abs(cost(target) - cost(state)), fewest)
+
+    def test_with_the_way_to_the_state(self):
+        for keys in ("(ab<<>", "a<(b>>", "()()<<a", "x[y<<z"):
+            for many in range(len(keys) + 1):
+                state = run_keys(("", 0), keys[:many])
+                target, kept = kept_after(state, keys[many:])
+                whole = building_keys(state) + further_keys(state, target, kept)
+                self.assertEqual(run_keys(("", 0), whole), target)
+                self.assertEqual(len(whole) - len(idle_keys(whole)), cost(target))
+
+
+class ThroughTheNumbersOfStates(unittest.TestCase):
+
+    def test_the_states_of_each_cost_are_those_with_so_many_fewest_keys(self):
+        # Closing brackets and `-` lead to no state with fewer keys.
+        for letters, kinds, keys, longest in ((1, 1, "a()<>-", 5), (2, 0, "ab<>-", 8), (0, 2, "()[]<>-", 4)):
+            for total, layer in enumerate(search_layers(keys, longest)):
+                found = sorted(state_of(marked) for marked in layer)
+                self.assertEqual(count_states(letters, kinds, total), len(found))
+                if len(found) <= 1000:
+                    self.assertEqual(list_states(letters, kinds, total), found)
+
+    def test_the_listed_states(self):
+        for numbers in ((1, 1, 5), (26, 2, 2), (2, 3, 2), (0, 1, 8), (2, 0, 9)):
+            total = numbers[-1]
+            for state in list_states(*numbers):
+                self.assertEqual((cost(state), len(needed_roles(state))), (total, total))
+                self.assertEqual((len(building_keys(state)), len(clearing_keys(state))), (total, total))
+                self.assertEqual(count_shortest(state), math.prod(level_ways(state)))
+                self.assertEqual(parse_state(format_state(state)), state)
+
+    def test_each_key_leads_to_a_state_of_a_neighboring_cost(self):
+        lists = [list_states(1, 1, total) for total in range(6)]
+        for total in range(1, 5):
+            for state in lists[total]:
+                for key in accepted_moves(state) + "a(":
+                    following = run_keys(state, key)
+                    self.assertIn(following, lists[total - 1] + lists[total + 1])
+
+
+class ThroughStrings(unittest.TestCase):
+
+    def test_as_many_words_as_keys_and_as_many_roles_as_the_cost(self):
+        for keys in list(reached_by_all("a()<>-", 5)) + wandering_lists():
+            words = format_roles(roles_of(keys)).split()
+            self.assertEqual(len(words), len(keys))
+            self.assertEqual(len(words) - words.count("-"), cost(run_keys(("", 0), keys)))
+            self.assertEqual(parse_roles(" ".join(words)), roles_of(keys))
 
 
 if __name__ == "__main__":
